@@ -40,7 +40,7 @@ func check(f Format, floats ...uint64) api.Errno {
 		return api.ErrArg
 	}
 	for _, x := range floats {
-		if x > f.signBit()<<1-1 || x&^f.signBit() >= f.infinity() {
+		if x&^f.signBit() >= f.infinity() { // also bits above the sign, which a Single may have
 			return api.ErrArg
 		}
 	}

@@ -12,45 +12,64 @@ import (
 	"commonform/rational"
 )
 
-// P4.1: what is no float is ErrArg everywhere, ahead of all other errors.
+// P4.1: what is no float is ErrArg everywhere, ahead of all other errors, and with zero values.
 func TestWrongFloats(t *testing.T) {
 	for _, w := range wrong() {
 		f, x := w.f, w.x
-		codes := map[string]api.Errno{}
-		_, codes["Value"] = float.Value(f, x)
-		_, codes["Convert"] = float.Convert(f, x, float.Single)
-		_, _, _, codes["Decode"] = float.Decode(f, x)
-		_, codes["Precision"] = float.Precision(f, x)
-		_, codes["Scale"] = float.Scale(f, x, 1)
-		_, codes["Next"] = float.Next(f, x, true)
-		_, codes["Neg"] = float.Neg(f, x)
-		_, codes["Add"] = float.Add(f, x, 0)
-		_, codes["Add, second"] = float.Add(f, 0, x)
-		_, codes["Sub"] = float.Sub(f, x, 0)
-		_, codes["Sub, second"] = float.Sub(f, 0, x)
-		_, codes["Mul"] = float.Mul(f, x, 0)
-		_, codes["Mul, second"] = float.Mul(f, 0, x)
-		_, codes["Div"] = float.Div(f, x, 0)
-		_, codes["Div, second"] = float.Div(f, 0, x)
-		_, codes["Root"] = float.Root(f, x)
-		_, codes["Compare"] = float.Compare(f, x, float.Double, 0)
-		_, codes["Compare, second"] = float.Compare(float.Double, 0, f, x)
-		_, _, codes["Shortest"] = float.Shortest(f, x)
-		_, codes["Print"] = float.Print(f, x, float.Single)
-		for what, e := range codes {
-			if e != api.ErrArg {
-				t.Errorf("%s of %d, %x: %v", what, f, x, e)
-			}
+		for what, op := range map[string]func(f float.Format, x, y uint64) (uint64, api.Errno){"Add": float.Add, "Sub": float.Sub, "Mul": float.Mul, "Div": float.Div} {
+			y, e := op(f, x, 0)
+			refused(t, what, f, x, y, e)
+			y, e = op(f, 0, x)
+			refused(t, what+", second", f, x, y, e)
 		}
+		for what, op := range map[string]func(f float.Format, x uint64) (uint64, api.Errno){"Neg": float.Neg, "Root": float.Root} {
+			y, e := op(f, x)
+			refused(t, what, f, x, y, e)
+		}
+		y, e := float.Convert(f, x, float.Single)
+		refused(t, "Convert", f, x, y, e)
+		y, e = float.Scale(f, x, 1)
+		refused(t, "Scale", f, x, y, e)
+		y, e = float.Next(f, x, true)
+		refused(t, "Next", f, x, y, e)
+		v, e := float.Value(f, x)
+		refused(t, "Value", f, x, uint64(v.Sign()), e)
+		m, exponent, s, e := float.Decode(f, x)
+		refused(t, "Decode", f, x, uint64(m.Sign()+exponent+s), e)
+		n, e := float.Precision(f, x)
+		refused(t, "Precision", f, x, uint64(n), e)
+		n, e = float.Compare(f, x, float.Double, 0)
+		refused(t, "Compare", f, x, uint64(n), e)
+		n, e = float.Compare(float.Double, 0, f, x)
+		refused(t, "Compare, second", f, x, uint64(n), e)
+		digits, point, e := float.Shortest(f, x)
+		refused(t, "Shortest", f, x, uint64(len(digits)+point), e)
+		s2, e := float.Print(f, x, float.Single)
+		refused(t, "Print", f, x, uint64(len(s2)), e)
 	}
+}
+
+// refused checks that a call with what is no float returned ErrArg, and nothing else.
+func refused(t *testing.T, what string, f float.Format, x, result uint64, e api.Errno) {
+	t.Helper()
+	if result != 0 || e != api.ErrArg {
+		t.Errorf("%s of %d, %x: %x, %v", what, f, x, result, e)
+	}
+}
+
+// P4.1: formats that are none.
+func TestWrongFormats(t *testing.T) {
 	for _, f := range []float.Format{-1, 2, math.MaxInt} {
-		_, a := float.Nearest(f, rational.Ratio{})
-		_, b := float.Convert(float.Single, 0, f)
-		_, c := float.Read(f, "?")
-		_, d := float.Print(float.Single, 0, f)
-		if a != api.ErrArg || b != api.ErrArg || c != api.ErrArg || d != api.ErrArg {
-			t.Errorf("the format %d: %v, %v, %v, %v", f, a, b, c, d)
-		}
+		x, e := float.Nearest(f, ratio("5"))
+		refused(t, "Nearest", f, 5, x, e)
+		x, e = float.Convert(float.Single, 5, f)
+		refused(t, "Convert", f, 5, x, e)
+		x, e = float.Read(f, "?")
+		refused(t, "Read", f, 5, x, e)
+		s, e := float.Print(float.Single, 5, f)
+		refused(t, "Print", f, 5, uint64(len(s)), e)
+		n, e := float.Compare(float.Single, 5, f, 0)
+		refused(t, "Compare", f, 5, uint64(n), e)
 	}
 }
 

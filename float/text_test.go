@@ -18,7 +18,11 @@ func width(f float.Format) int { return [2]int{32, 64}[f] }
 // P4.1, P4.5: the shortest digits, against the library, and by their definition.
 func TestShortest(t *testing.T) {
 	for _, f := range formats {
-		for _, x := range samples(f, 21, 3000) {
+		l := samples(f, 21, 3000)
+		for x := range uint64(500) { // the least floats: few digits, of which many are read as the same float
+			l = append(l, x)
+		}
+		for _, x := range l {
 			digits, point, e := float.Shortest(f, x)
 			if x&^sign(f) == 0 {
 				if digits != "0" || point != 0 || e != api.OK {

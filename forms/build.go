@@ -14,9 +14,7 @@ func Build(g []Node) (api.Form, api.Errno) {
 	return build(g)
 }
 
-const maxLabels = 1000
-
-// build returns the normal form of a graph; ErrSize if it would be too large.
+// build returns the normal form of a graph; ErrSize if it would be too large. (Each label comes with its object and with a reference: in so few nodes there are less than 1000 of them.)
 func build(g []Node) (api.Form, api.Errno) {
 	b := &builder{graph: g, shared: shared(g), labels: map[int]string{}}
 	f := b.object(0, 1)
@@ -54,10 +52,6 @@ func (b *builder) object(i, depth int) api.Form {
 	}
 	if !b.shared[i] {
 		return b.body(i, depth)
-	}
-	if len(b.labels) == maxLabels {
-		b.large = true
-		return api.Form{}
 	}
 	text := strconv.Itoa(len(b.labels))
 	b.labels[i] = text

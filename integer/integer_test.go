@@ -193,7 +193,7 @@ func TestPower(t *testing.T) {
 		want api.Errno
 	}{
 		{integer.New(2), -1, api.ErrArg}, {integer.New(0), math.MinInt, api.ErrArg},
-		{integer.New(2), api.MaxBits, api.ErrLarge}, {integer.New(2), math.MaxInt, api.ErrLarge}, {integer.New(-4), api.MaxBits / 2, api.ErrLarge},
+		{integer.New(2), api.MaxBits, api.ErrLarge}, {integer.New(2), math.MaxInt, api.ErrLarge}, {integer.New(5), math.MaxInt, api.ErrLarge}, {integer.New(-4), api.MaxBits / 2, api.ErrLarge},
 		{power2(api.MaxBits), 1, api.ErrLarge}, {integer.New(-2), api.MaxBits, api.ErrLarge}, {power2(api.MaxBits + 5), 3, api.ErrLarge}, {integer.New(3), 41349, api.ErrLarge},
 	} {
 		p, e := c.x.Power(c.n)

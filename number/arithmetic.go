@@ -59,7 +59,8 @@ func multiply(v, w value) (value, api.Errno) {
 	re := c.sub(first, second)
 	third := c.mul(a, q)
 	fourth := c.mul(b, p)
-	return c.end(re, c.add(third, fourth))
+	im := c.add(third, fourth)
+	return c.end(re, im)
 }
 
 // Div returns x/y.
@@ -76,10 +77,12 @@ func divide(v, w value) (value, api.Errno) {
 	n := c.add(first, second)
 	first = c.mul(a, p)
 	second = c.mul(b, q)
-	re := c.div(c.add(first, second), n)
+	sum := c.add(first, second)
+	re := c.div(sum, n)
 	first = c.mul(b, p)
 	second = c.mul(a, q)
-	im := c.div(c.sub(first, second), n)
+	difference := c.sub(first, second)
+	im := c.div(difference, n)
 	return c.end(re, im)
 }
 

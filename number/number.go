@@ -137,10 +137,7 @@ func parseFloat(text string, kind int) (scalar, bool) {
 			return scalar{}, false
 		}
 	}
-	bits, err := strconv.ParseUint(text, 16, 64)
-	if err != nil {
-		return scalar{}, false
-	}
+	bits, _ := strconv.ParseUint(text, 16, 64)
 	_, e := float.Value(format(kind), bits)
 	return scalar{kind: kind, bits: bits}, e == api.OK
 }

@@ -6,6 +6,7 @@ import (
 
 	"commonform/api"
 	"commonform/float"
+	"commonform/integer"
 	"commonform/rational"
 )
 
@@ -30,7 +31,7 @@ func (r *reader) oneOf(bytes string) byte {
 // digits takes digits of a base, and returns their number.
 func (r *reader) digits(base int) int {
 	from := r.at
-	for r.at < len(r.text) && digitValue(r.text[r.at]) < base {
+	for !r.ended() && isDigit(r.text[r.at:r.at+1], base) {
 		r.at++
 	}
 	return r.at - from
@@ -38,17 +39,10 @@ func (r *reader) digits(base int) int {
 
 func (r *reader) ended() bool { return r.at == len(r.text) }
 
-// digitValue returns the value of a digit in the greatest base; 36 for a byte that is no digit.
-func digitValue(c byte) int {
-	switch {
-	case c >= '0' && c <= '9':
-		return int(c - '0')
-	case c >= 'A' && c <= 'Z':
-		return int(c-'A') + 10
-	case c >= 'a' && c <= 'z':
-		return int(c-'a') + 10
-	}
-	return 36
+// isDigit reports whether a byte alone is an integer: a sign alone is none.
+func isDigit(c string, base int) bool {
+	_, e := integer.Parse(c, base)
+	return e == api.OK
 }
 
 // isRational reports whether the text is an integer or a ratio in a base.

@@ -326,7 +326,7 @@ func TestTextErrors(t *testing.T) {
 		want  api.Errno
 	}{
 		{"1/0", 10, api.ErrZero}, {"0/00", 10, api.ErrZero}, {"1/-2", 10, api.ErrForm}, {"1/+2", 10, api.ErrForm}, {"1/2/3", 10, api.ErrForm}, {"/2", 10, api.ErrForm}, {"1/", 10, api.ErrForm}, {"/", 10, api.ErrForm}, {"", 10, api.ErrForm}, {"x/0", 10, api.ErrForm}, {"1/x", 10, api.ErrForm}, {"1//2", 10, api.ErrForm}, {"1/2 ", 10, api.ErrForm},
-		{long + "/70", 10, api.ErrLarge}, {long + "111", 10, api.ErrLarge}, {strings.Repeat("?", api.MaxDigits+1), 10, api.ErrLarge}, {strings.Repeat("?", api.MaxDigits+1), 1, api.ErrArg}, {"1/0", 37, api.ErrArg}, {"?", -1, api.ErrArg},
+		{long + "/70", 10, api.ErrLarge}, {long + "111", 10, api.ErrLarge}, {long + "/10", 2, api.ErrLarge}, {long + "/10", 36, api.ErrLarge}, {strings.Repeat("?", api.MaxDigits+1), 10, api.ErrLarge}, {strings.Repeat("?", api.MaxDigits+1), 1, api.ErrArg}, {"1/0", 37, api.ErrArg}, {"?", -1, api.ErrArg},
 	} {
 		x, e := rational.Parse(c.s, c.radix)
 		failed(t, "Parse", x, e, c.want)

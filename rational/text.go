@@ -19,10 +19,13 @@ func (x Ratio) Text(radix int) (string, api.Errno) {
 
 // Parse returns the fraction with a text.
 func Parse(s string, radix int) (Ratio, api.Errno) {
-	before, behind, slash := strings.Cut(s, "/")
-	if len(s) > api.MaxDigits && radix >= 2 && radix <= 36 {
+	switch {
+	case radix < 2 || radix > 36:
+		return Ratio{}, api.ErrArg
+	case len(s) > api.MaxDigits:
 		return Ratio{}, api.ErrLarge
 	}
+	before, behind, slash := strings.Cut(s, "/")
 	n, e := integer.Parse(before, radix)
 	if e != api.OK || !slash {
 		return Of(n), e
