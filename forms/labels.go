@@ -1,6 +1,10 @@
 package forms
 
-import "commonform/api"
+import (
+	"slices"
+
+	"commonform/api"
+)
 
 // Normal returns a form with as few labels as possible, in order.
 func Normal(f api.Form) (api.Form, api.Errno) {
@@ -44,12 +48,10 @@ func Plain(f api.Form) (api.Form, api.Errno) {
 	return plain, api.OK
 }
 
-// circular reports whether a reference stands within the Kid of its label. (A label behind which the reference stands cannot lead there: it has been left.)
+// circular reports whether a reference stands within the Kid of its label; around are the labels in which f stands. (There are no other circles: a reference has its label ahead.)
 func circular(f api.Form, around []string) bool {
-	for _, text := range around {
-		if f.Kind == api.FormRef && f.Text == text {
-			return true
-		}
+	if f.Kind == api.FormRef && slices.Contains(around, f.Text) {
+		return true
 	}
 	if f.Kind == api.FormLabel {
 		around = append(append([]string(nil), around...), f.Text)

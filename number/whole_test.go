@@ -10,7 +10,7 @@ import (
 	"commonform/number"
 )
 
-func forms(l ...string) []api.Form {
+func numbers(l ...string) []api.Form {
 	var f []api.Form
 	for _, s := range l {
 		f = append(f, num(s))
@@ -24,7 +24,7 @@ func TestDivisors(t *testing.T) {
 		l        []api.Form
 		gcd, lcm string
 	}{
-		{nil, "0", "1"}, {forms("0"), "0", "0"}, {forms("-5"), "5", "5"}, {forms("12", "-18"), "6", "36"}, {forms("4", "6", "10"), "2", "60"}, {forms("0", "7"), "7", "0"}, {forms("7", "0", "5"), "1", "0"}, {forms("-1", "-1"), "1", "1"},
+		{nil, "0", "1"}, {numbers("0"), "0", "0"}, {numbers("-5"), "5", "5"}, {numbers("12", "-18"), "6", "36"}, {numbers("4", "6", "10"), "2", "60"}, {numbers("0", "7"), "7", "0"}, {numbers("7", "0", "5"), "1", "0"}, {numbers("-1", "-1"), "1", "1"},
 	} {
 		g, e := number.Gcd(c.l)
 		equal(t, "Gcd", shown(t, g, e), c.gcd)
@@ -34,7 +34,7 @@ func TestDivisors(t *testing.T) {
 	r := rand.New(rand.NewSource(31))
 	for range 200 {
 		x, y := big.NewInt(r.Int63n(1<<30)-1<<29), big.NewInt(r.Int63n(1<<20)-1<<19)
-		l := forms(x.String(), y.String())
+		l := numbers(x.String(), y.String())
 		product := must(number.Mul(must(number.Gcd(l)), must(number.Lcm(l))))
 		equal(t, "Gcd by Lcm", product.Text, new(big.Int).Abs(new(big.Int).Mul(x, y)).String())
 	}
