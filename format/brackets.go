@@ -98,16 +98,12 @@ func (s scene) part(d directive, v value) int {
 func (r *run) iteration(d directive, s scene) int {
 	most := s.values(d, wantNumber())[0].or(-1)
 	body := d.parts[0]
-	control, given := "", len(body) == 0
-	if given {
-		control = s.args.takeString()
+	if len(body) == 0 {
+		body = within(s.args.takeString())
 	}
 	list := s.args
 	if !d.at {
 		list = s.args.takeList()
-	}
-	if given {
-		body = within(control)
 	}
 	for times := 0; times != most; times++ {
 		if list.left() == 0 && (times > 0 || !d.final) {
