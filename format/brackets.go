@@ -155,8 +155,8 @@ func (r *run) justified(d directive, s scene) int {
 
 // escape ends what it stands in.
 func (r *run) escape(d directive, s scene) int {
-	any := wantBetween(-maxParameter, maxParameter)
-	v := s.values(d, any, any, any)
+	integer := wantBetween(-maxParameter, maxParameter)
+	v := s.values(d, integer, integer, integer)
 	a, b, c := v[0].or(0), v[1].or(0), v[2].or(0)
 	done := false
 	switch len(d.params) {

@@ -25,7 +25,7 @@ type interval struct{ low, high limit }
 
 // integers returns where the integers of a type lie, and whether there are any.
 func integers(t spec) (interval, bool) {
-	var all interval
+	var found interval
 	some := false
 	for _, s := range newField(t).line {
 		x, there := s.integer()
@@ -33,12 +33,12 @@ func integers(t spec) (interval, bool) {
 			continue
 		}
 		if !some {
-			all.low = s.lowest()
+			found.low = s.lowest()
 		}
-		all.high = s.highest()
+		found.high = s.highest()
 		some = true
 	}
-	return all, some
+	return found, some
 }
 
 // lowest returns the lower limit of the integers of a stretch that has some.
@@ -65,11 +65,11 @@ func Integers(t api.Form) (some bool, lo, hi api.Form, e api.Errno) {
 	if e != api.OK {
 		return false, api.Form{}, api.Form{}, e
 	}
-	all, some := integers(s)
+	found, some := integers(s)
 	if !some {
 		return false, api.Form{}, api.Form{}, api.OK
 	}
-	return true, all.low.form(), all.high.form(), api.OK
+	return true, found.low.form(), found.high.form(), api.OK
 }
 
 // calculated returns a type of the results of an operation on the objects of two types, which makes of two intervals another one.
@@ -78,10 +78,10 @@ func calculated(a, b api.Form, operation func(x, y interval) interval) (api.Form
 	if e != api.OK {
 		return api.Form{}, e
 	}
-	whole := sorted(isInteger)
-	u := newUniverse(append(specs, whole)...)
+	integer := sorted(isInteger)
+	u := newUniverse(append(specs, integer)...)
 	for _, s := range specs {
-		if u.without(u.set(s), u.set(whole)) != none {
+		if u.without(u.set(s), u.set(integer)) != none {
 			return forms.Symbol(lisp, "NUMBER"), api.OK
 		}
 	}
