@@ -1,6 +1,7 @@
 package core_test
 
 import (
+	"fmt"
 	"math/rand"
 	"reflect"
 	"strings"
@@ -56,6 +57,54 @@ func TestTexts(t *testing.T) {
 	fails(t, "a tree that is too deep", e, api.ErrForm)
 }
 
+// P19.1: which bytes stand for themselves in texts, and how many kids each op has.
+func TestBytesAndKids(t *testing.T) {
+	var all []byte
+	for b := range 128 {
+		all = append(all, byte(b))
+	}
+	c := api.Core{Op: api.CoreConst, Data: api.Form{Kind: api.FormString, Text: string(all)}}
+	want := "(const 8::"
+	for _, b := range all {
+		if strings.IndexByte("abcdefghijklmnopqrstuvwxyzABCDEFGHIJKLMNOPQRSTUVWXYZ0123456789-*+/<>=%&", b) >= 0 {
+			want += string(b)
+		} else {
+			want += fmt.Sprintf("~%02x", b)
+		}
+	}
+	equal(t, "all bytes", shown(t, c), want+")")
+	back, e := core.Parse(want + ")")
+	equal(t, "Parse of them", []any{back, e}, []any{c, api.OK})
+	symbol := "1:A:B"
+	for _, c := range []struct {
+		head        string
+		least, most int // -1: any number
+	}{
+		{"const 2::1", 0, 0}, {"special " + symbol, 0, 0}, {"setspecial " + symbol, 1, 1}, {"function " + symbol, 0, 0}, {"lambda 0", 1, 1}, {"lambda 0 {2 0 -1 -}", 2, 2}, {"call", 1, -1}, {"callglobal " + symbol, 0, -1}, {"if", 3, 3}, {"progn", 0, -1},
+		{"let []", 1, 1}, {"let [0 1]", 3, 3}, {"labels []", 1, 1}, {"bind []", 1, 1}, {"bind [" + symbol + "]", 2, 2}, {"progv", 3, 3}, {"block 0", 1, 1}, {"tagbody []", 1, 1}, {"tagbody [0 1]", 3, 3}, {"catch", 2, 2}, {"throw", 2, 2}, {"protect", 2, 2}, {"valuescall", 1, -1}, {"valuesfirst", 1, -1},
+	} {
+		for n := range 6 {
+			_, e := core.Parse("(" + c.head + strings.Repeat(" (progn)", n) + ")")
+			want := api.ErrForm
+			if n >= c.least && (c.most < 0 || n <= c.most) {
+				want = api.OK
+			}
+			fails(t, fmt.Sprint(c.head, " with ", n, " kids"), e, want)
+		}
+	}
+	for _, head := range []string{"var 0", "set 0", "return 0", "go 0"} {
+		for n := range 3 {
+			around := map[string]string{"var 0": "(let [0] (progn) (", "set 0": "(let [0] (progn) (", "return 0": "(block 0 (", "go 0": "(tagbody [0] (progn) ("}[head]
+			_, e := core.Parse(around + head + strings.Repeat(" (progn)", n) + "))")
+			want := api.ErrForm
+			if n == 0 && (head == "var 0" || head == "go 0") || n == 1 && (head == "set 0" || head == "return 0") {
+				want = api.OK
+			}
+			fails(t, fmt.Sprint(head, " with ", n, " kids"), e, want)
+		}
+	}
+}
+
 // P19.1: trees that no text shows: fields that do not belong to an op, and what is too large.
 func TestCheck(t *testing.T) {
 	progn, data := api.Core{Op: api.CoreProgn}, api.Form{Kind: api.FormInt, Text: "1"}
@@ -67,6 +116,7 @@ func TestCheck(t *testing.T) {
 		{Op: api.CoreSpecial, Data: api.Form{Kind: api.FormSymbol, Home: "A", Text: "B", Kids: []api.Form{data}}}, {Op: api.CoreSpecial, Data: api.Form{Kind: api.FormSymbol, Home: "A", Text: "\xff"}},
 		{Op: api.CoreLambda, Pars: []api.Param{{Kind: api.ParamKey, Given: -1, Key: api.Form{Kind: api.FormSymbol, Text: "\xff"}}}, Kids: []api.Core{progn, progn}},
 		{Op: api.CoreLambda, Pars: []api.Param{{Kind: api.ParamRequired, Given: -1, Key: api.Form{Text: "x"}}}, Kids: []api.Core{progn}},
+		{Op: api.CoreProgn, Syms: []api.Form{symbol}, Kids: []api.Core{progn}}, {Op: api.CoreProgn, Vars: []int{0}, Kids: []api.Core{progn}}, {Op: api.CoreProgn, Pars: []api.Param{{Kind: 1, Given: -1}}, Kids: []api.Core{progn}},
 		{Op: api.CoreBlock, N: -1, Kids: []api.Core{progn}}, {Op: api.CoreTagbody, Vars: []int{-1}, Kids: []api.Core{progn, progn}},
 	} {
 		fails(t, short(c), core.Check(c), api.ErrForm)
@@ -209,6 +259,7 @@ func TestRenamed(t *testing.T) {
 		{"(let [5] (progn) (var 5))", 9994, "(let [9999] (progn) (var 9999))", api.OK},
 		{"(let [5] (progn) (var 5))", 9995, "", api.ErrRange}, {"(let [5] (progn) (var 5))", -6, "", api.ErrRange}, {"(let [5] (progn) (var 5))", 1 << 62, "", api.ErrRange}, {"(let [5] (progn) (var 5))", -1 << 63, "", api.ErrRange},
 		{"(let [5] (progn) (var 5))", -5, "(let [0] (progn) (var 0))", api.OK}, {"(lambda 1 (progn))", 1 << 62, "(lambda 1 (progn))", api.OK}, {"(progn)", -1 << 63, "(progn)", api.OK},
+		{"(let [0] (progn) (var 0))", 9999, "(let [9999] (progn) (var 9999))", api.OK}, {"(let [9999] (progn) (var 9999))", -9999, "(let [0] (progn) (var 0))", api.OK}, {"(let [9999] (progn) (var 9999))", -10000, "", api.ErrRange},
 		{"(block 0 (return 0 (progn)))", 3, "(block 3 (return 3 (progn)))", api.OK}, {"(block 0 (progn))", -1, "", api.ErrRange}, {"(tagbody [2 1] (go 1) (go 2) (progn))", 1, "(tagbody [3 2] (go 2) (go 3) (progn))", api.OK}, {"(tagbody [0] (progn) (progn))", -1, "", api.ErrRange},
 		{"(lambda 1 {2 5 3 -} {4 2 -1 1:A:B} (progn) (var 5) (set 3 (var 2)))", 1, "(lambda 1 {2 6 4 -} {4 3 -1 1:A:B} (progn) (var 6) (set 4 (var 3)))", api.OK}, {"(lambda 0 {2 5 3 -} (progn) (progn))", -4, "", api.ErrRange}, {"(lambda 0 {2 3 5 -} (progn) (progn))", 9995, "", api.ErrRange},
 	} {

@@ -163,6 +163,7 @@ func TestShow(t *testing.T) {
 		lambda.Variables(garbage)
 		lambda.Arity(garbage)
 		lambda.Match(garbage, []api.Form{forms.Nil(), forms.Nil()})
+		lambda.Match(garbage, []api.Form{forms.Nil()})
 	}
 }
 
@@ -219,6 +220,24 @@ func TestLarge(t *testing.T) {
 		again, e := lambda.Parse(back, true)
 		equal(t, "Parse of it", []any{len(again.Items), e}, []any{len(list.Items), api.OK})
 	}
+}
+
+// P18.2: patterns that are as deep as can be.
+func TestDeep(t *testing.T) {
+	f := forms.Nil()
+	for range 99 {
+		f = forms.List([]api.Form{f})
+	}
+	l, e := lambda.Parse(f, true)
+	fails(t, "Parse", e, api.OK)
+	back, e := lambda.Show(l)
+	if e != api.OK || !forms.Equal(back, f) {
+		t.Errorf("Show of deep patterns: %v", e)
+	}
+	b, e := lambda.Match(l, []api.Form{f.Kids[0]})
+	equal(t, "Match", []any{b, e}, []any{[]lambda.Binding(nil), api.OK})
+	_, e = lambda.Match(l, []api.Form{f})
+	fails(t, "Match of a deeper list", e, api.ErrSize)
 }
 
 // P18.1: results share no memory with arguments.

@@ -60,7 +60,7 @@ func TestMatchErrors(t *testing.T) {
 	}{
 		{"(a)", "", api.ErrSize}, {"(a)", "1 2", api.ErrSize}, {"(a &optional b)", "1 2 3", api.ErrSize}, {"(a &key b)", "", api.ErrSize},
 		{"(&key x)", ":x", api.ErrForm}, {"(&key x)", ":y 1 :x", api.ErrForm}, {"(&key x &allow-other-keys)", "5", api.ErrForm}, {"(&rest r &key)", "5", api.ErrForm},
-		{"(&key x)", ":y 3", api.ErrNone}, {"(&key x)", "x 3", api.ErrNone}, {"(&key x)", "5 3", api.ErrNone}, {"(&key)", ":x 3", api.ErrNone},
+		{"(&key x)", ":y 3", api.ErrNone}, {"(&key x)", ":x 1 :y 3", api.ErrNone}, {"(&key x)", ":y 3 :x 1", api.ErrNone}, {"(&key x)", "x 3", api.ErrNone}, {"(&key x)", "5 3", api.ErrNone}, {"(&key)", ":x 3", api.ErrNone},
 		{"(&key x)", ":allow-other-keys nil :y 3 :allow-other-keys t", api.ErrNone},
 		{"((a))", "5", api.ErrForm}, {"((a))", "\"a\"", api.ErrForm}, {"((a))", "nil", api.ErrSize}, {"((a))", "(1 2)", api.ErrSize}, {"(())", "(1)", api.ErrSize},
 		{"((a))", "(1 . 2)", api.ErrForm}, {"((a b))", "(1 . 2)", api.ErrSize}, {"((&optional a))", "(1 . 2)", api.ErrForm}, {"((&key a))", "(:a 1 . 2)", api.ErrForm},

@@ -107,7 +107,7 @@ func TestNumbers(t *testing.T) {
 		{"(< 1)", "t"}, {"(< 1 2 3)", "t"}, {"(< 1 2 2)", "nil"}, {"(<= 1 2 2)", "t"}, {"(<= 1 3 2)", "nil"}, {"(> 3 2 1)", "t"}, {"(> 3 3)", "nil"}, {"(>= 3 3 1/2)", "t"}, {"(>= 3 4)", "nil"}, {"(< 1 #c(1 2))", "! TYPE-ERROR #C(1 2) real"}, {"(> x 1)", "! TYPE-ERROR x real"},
 		{"(max 1 3 2)", "3"}, {"(max 1 1.0)", "1"}, {"(max 1.0 1)", "1.0"}, {"(min 2 1 3)", "1"}, {"(min 1 1.0)", "1"}, {"(min 5)", "5"}, {"(max)", "! PROGRAM-ERROR max"}, {"(min #c(1 2))", "! TYPE-ERROR #C(1 2) real"},
 		{"(abs -5)", "5"}, {"(abs -1/2)", "1/2"}, {"(abs -0.0)", "0.0"}, {"(abs #c(1 2))", "! TYPE-ERROR #C(1 2) real"},
-		{"(floor -7 2)", "-4 1"}, {"(ceiling -7 2)", "-3 -1"}, {"(truncate -7 2)", "-3 -1"}, {"(round -7 2)", "-4 1"}, {"(round 5/2)", "2 1/2"}, {"(floor 5/2)", "2 1/2"}, {"(floor -3.5)", "-4 0.5"}, {"(truncate 7 2.0)", "3 1.0"}, {"(floor 1 0)", "! DIVISION-BY-ZERO"}, {"(round 1 0.0)", "! DIVISION-BY-ZERO"},
+		{"(floor -7 2)", "-4 1"}, {"(ceiling -7 2)", "-3 -1"}, {"(truncate -7 2)", "-3 -1"}, {"(round -7 2)", "-4 1"}, {"(ceiling 7 2)", "4 -1"}, {"(truncate 7 2)", "3 1"}, {"(round 7 2)", "4 -1"}, {"(round 5/2)", "2 1/2"}, {"(floor 5/2)", "2 1/2"}, {"(floor -3.5)", "-4 0.5"}, {"(truncate 7 2.0)", "3 1.0"}, {"(floor 1 0)", "! DIVISION-BY-ZERO"}, {"(round 1 0.0)", "! DIVISION-BY-ZERO"},
 		{"(mod -7 2)", "1"}, {"(rem -7 2)", "-1"}, {"(mod 5/2 1)", "1/2"}, {"(mod 1 0)", "! DIVISION-BY-ZERO"}, {"(rem x 1)", "! TYPE-ERROR x real"},
 		{"(gcd)", "0"}, {"(gcd 12 -18)", "6"}, {"(lcm)", "1"}, {"(lcm 4 6)", "12"}, {"(lcm 4 0)", "0"}, {"(gcd 1/2)", "! TYPE-ERROR 1/2 integer"}, {"(lcm 1.0)", "! TYPE-ERROR 1.0 integer"},
 		{"(logand)", "-1"}, {"(logand 12 10)", "8"}, {"(logior)", "0"}, {"(logior 12 10)", "14"}, {"(logxor)", "0"}, {"(logxor 12 10 1)", "7"}, {"(lognot 5)", "-6"}, {"(lognot -1)", "0"}, {"(logand 1.0)", "! TYPE-ERROR 1.0 integer"},
@@ -366,4 +366,65 @@ func TestFullFault(t *testing.T) {
 		}
 	}
 	equal(t, "CAR", answered(w, w.Call(car, []heap.Word{fix(5)})), "limit 9")
+}
+
+// P20.1, P20.6: the last symbol that a table has room for.
+func TestLastSymbol(t *testing.T) {
+	for _, c := range []struct{ call, want string }{{"(gensym)", "#:g0"}, {"(make-symbol \"A\")", "#:a"}, {"(intern \"NEWER\")", "newer nil"}, {"(read-from-string \"newer\")", "newer"}} {
+		w := newWorld(t)
+		object(t, w, c.call)
+		n := 0
+		for w.Symbols() != nil {
+			if _, _, e := w.Symbols().Symbol(n); e != api.OK {
+				break
+			}
+			n++
+		}
+		for ; n < api.MaxSymbols-1; n++ {
+			w.Symbols().Fresh("X")
+		}
+		equal(t, c.call, called(t, w, c.call), c.want)
+		if got := called(t, w, c.call); !strings.HasPrefix(got, "! PACKAGE-ERROR") && c.call[1] != 'i' && c.call[1] != 'r' {
+			t.Errorf("%s in a full table: %s", c.call, got)
+		}
+	}
+}
+
+// P20.6: INTERN twice returns the same word; what is put is what is there then; what GENSYM and MAKE-SYMBOL return was not there.
+func TestIdentity(t *testing.T) {
+	w := newWorld(t)
+	name, x := object(t, w, "\"SOME\""), object(t, w, "(1)")
+	one := answer(t, w, "INTERN", name).Values[0]
+	equal(t, "INTERN twice", answer(t, w, "INTERN", name).Values[0], one)
+	equal(t, "FIND-SYMBOL", answer(t, w, "FIND-SYMBOL", name).Values[0], one)
+	equal(t, "Symbol", symbol(t, w, "COMMON-LISP-USER", "SOME"), one)
+	car, _ := w.Function(symbol(t, w, "COMMON-LISP", "CAR"))
+	for _, c := range []struct {
+		put, get string
+		x        heap.Word
+	}{{"SET", "SYMBOL-VALUE", x}, {"%FSET", "SYMBOL-FUNCTION", car}, {"%SET-PLIST", "SYMBOL-PLIST", x}} {
+		equal(t, c.put, answer(t, w, c.put, one, c.x).Values, []heap.Word{c.x})
+		equal(t, c.get, answer(t, w, c.get, one).Values, []heap.Word{c.x})
+	}
+	met := map[heap.Word]bool{}
+	for _, y := range w.Heap().Objects() {
+		met[y] = true
+	}
+	for _, call := range []string{"GENSYM", "GENSYM", "MAKE-SYMBOL", "MAKE-SYMBOL"} {
+		args := []heap.Word{name}
+		if y := answer(t, w, call, args...).Values[0]; met[y] {
+			t.Errorf("%s returned what was there", call)
+		} else {
+			met[y] = true
+		}
+	}
+	equal(t, "the strings of SYMBOL-NAME", answer(t, w, "SYMBOL-NAME", one).Values[0] == answer(t, w, "SYMBOL-NAME", one).Values[0], false)
+	equal(t, "STRING of a string", answer(t, w, "STRING", name).Values[0], name)
+	for _, c := range []struct {
+		name string
+		same bool
+	}{{"MAX", true}, {"MIN", true}, {"IDENTITY", true}, {"FLOAT", true}} {
+		y := object(t, w, "1.5")
+		equal(t, c.name, answer(t, w, c.name, y).Values[0] == y, c.same)
+	}
 }

@@ -83,18 +83,26 @@ func TestNil(t *testing.T) {
 			t.Error("a nil world has something")
 		}
 		w.SetExtra("x", 5)
-		_, e1 := w.Symbol("COMMON-LISP", "NIL")
-		_, _, e2 := w.Name(heap.Nil)
-		_, e3 := w.Value(heap.Nil)
-		_, e4 := w.Function(heap.Nil)
-		_, e5 := w.Build(forms.Nil())
-		_, e6 := w.Show(heap.Nil)
+		x1, e1 := w.Symbol("COMMON-LISP", "NIL")
+		home, name, e2 := w.Name(heap.Nil)
+		x3, e3 := w.Value(heap.Nil)
+		x4, e4 := w.Function(heap.Nil)
+		x5, e5 := w.Build(forms.Nil())
+		f, e6 := w.Show(heap.Nil)
+		equal(t, "other results", []any{x1, home, name, x3, x4, x5, f}, []any{0, "", "", 0, 0, 0, api.Form{}})
 		e7 := w.Register("X", 0, 0, func([]heap.Word) lib.Answer { return lib.Answer{} })
 		for i, e := range []api.Errno{e1, e2, e3, e4, e5, e6, e7, w.SetValue(heap.Nil, 0), w.SetFunction(heap.Nil, 0), w.Print("")} {
 			fails(t, fmt.Sprint("call ", i), e, api.ErrArg)
 		}
 		equal(t, "Call", w.Call(heap.Nil, nil), lib.Answer{Kind: lib.AnswerLimit, Code: api.ErrArg})
 	}
+}
+
+// The kinds of answers and ends, and the code of this layer.
+func TestConstants(t *testing.T) {
+	equal(t, "answers", []int{lib.AnswerValues, lib.AnswerFault, lib.AnswerNext, lib.AnswerLimit}, []int{0, 1, 2, 3})
+	equal(t, "ends", []int{lib.EndValues, lib.EndFault, lib.EndThrow, lib.EndLimit, lib.EndBad}, []int{0, 1, 2, 3, 4})
+	equal(t, "the code", lib.ErrNoSymbol, api.Errno(220))
 }
 
 // P20.1: objects of symbols are made when they are needed first.

@@ -36,8 +36,7 @@ func (r *run) call(function heap.Word, args []heap.Word) {
 func (r *run) around(call func()) {
 	r.going.Frames = r.base + len(r.frames) + 1
 	call()
-	r.going.Frames = r.base
-	if r.going.Crossed {
+	if r.going.Crossed() {
 		r.limited(ErrCross)
 	}
 }

@@ -100,7 +100,6 @@ func TestConstants(t *testing.T) {
 	// of a run that Apply begins: those of the run around it; of one that Run begins: its own ones
 	apply(t, w, "AGAIN")
 	equal(t, "in a part", ran(t, w, "(eq (funcall f) (again f))"), "= t")
-	f, _ := w.Symbol("COMMON-LISP-USER", "F")
 	inner := tree(t, "(setq m (funcall f))")
 	fails(t, "Register", w.Register("RUN", 0, 0, func([]heap.Word) lib.Answer {
 		end, _ := meaning.Run(w, inner, 100)
@@ -110,7 +109,6 @@ func TestConstants(t *testing.T) {
 	c, _ := core.Convert(forms.Call("LIST", []api.Form{form(t, "(setq l (funcall f))"), run, form(t, "(eq l m)"), form(t, "(eq l (funcall f))")}), nil)
 	end, _ := meaning.Run(w, c, 1000)
 	equal(t, "in a run inside", ending(w, end), "= ((1) (1) nil t)")
-	_ = f
 }
 
 // apply registers a builtin function that calls the first argument with the others by Apply, and answers as the end tells.
@@ -170,6 +168,27 @@ func TestCross(t *testing.T) {
 	end, _ := meaning.Run(w, named(t, "(block a (hide (function (lambda () (return-from a 1)))) 2)", "HIDE"), 1000)
 	equal(t, "hidden", ending(w, end), "limit 230")
 	equal(t, "behind it", ran(t, w, "(block a (funcall (function (lambda () (return-from a 1)))))"), "= 1")
+	// a run that Run begins is no part of the one that is going on
+	for _, c := range []struct{ inner, want string }{
+		{"(throw 1 2)", "! CONTROL-ERROR 1"}, {"(funcall g)", "! CONTROL-ERROR"}, {"(catch 1 (throw 1 2))", "= 2"}, {"(again g)", "= limit-230"}, {"(again (function (lambda () (throw 1 2))))", "= limit-230"},
+	} {
+		w := newWorld(t)
+		apply(t, w, "AGAIN")
+		inner := named(t, c.inner, "AGAIN")
+		fails(t, "Register", w.Register("INSIDE", 0, 0, func([]heap.Word) lib.Answer {
+			end, _ := meaning.Run(w, inner, 100)
+			if end.Kind == lib.EndFault {
+				return lib.Answer{Kind: lib.AnswerFault, Fault: end.Fault}
+			}
+			if end.Kind == lib.EndLimit {
+				s, _ := w.Symbol("COMMON-LISP-USER", "LIMIT-"+end.Code.Error())
+				return lib.Answer{Values: []heap.Word{s}}
+			}
+			return lib.Answer{Values: end.Values}
+		}), api.OK)
+		end, _ := meaning.Run(w, named(t, "(block a (setq g (function (lambda () (return-from a 1)))) (catch 1 (inside)))", "INSIDE"), 1000)
+		equal(t, c.inner+" in a run inside", ending(w, end), c.want)
+	}
 }
 
 // P21.1: Apply calls a function with arguments.
@@ -185,6 +204,9 @@ func TestApply(t *testing.T) {
 	equal(t, "with too few", []any{ending(w, end), n}, []any{"limit 10", 5})
 	end, n = meaning.Apply(w, f, nil, 100)
 	equal(t, "without arguments", []any{ending(w, end), n}, []any{"! PROGRAM-ERROR %::closure", 1})
+	list, _ := w.Symbol("COMMON-LISP", "LIST")
+	end, _ = meaning.Apply(w, list, []heap.Word{97<<3 | 1, heap.Unbound}, 100)
+	equal(t, "a character and Unbound", ending(w, end), "= (#\\a %::unbound)")
 	car, _ := w.Symbol("COMMON-LISP", "CAR")
 	end, n = meaning.Apply(w, car, []heap.Word{heap.Nil}, 100)
 	equal(t, "a symbol", []any{ending(w, end), n}, []any{"= nil", 1})

@@ -248,9 +248,9 @@ func (r *run) throws(tag heap.Word, values []heap.Word) {
 	}
 }
 
-// crosses ends this run and those around it.
+// crosses ends this run and those of which it is a part.
 func (r *run) crosses() {
-	r.going.Crossed = true
+	r.going.Cross()
 	r.limited(ErrCross)
 }
 

@@ -1,6 +1,12 @@
 package meaning_test
 
-import "testing"
+import (
+	"testing"
+
+	"commonform/api"
+	"commonform/core"
+	"commonform/meaning"
+)
 
 // P21.1: what core trees mean, form by form.
 func TestForms(t *testing.T) {
@@ -34,6 +40,11 @@ func TestForms(t *testing.T) {
 		{"(block a (list (return-from a 1) (car 2)))", "= 1"},
 		{"(block a (flet ((f () (return-from a 5))) (f) 6))", "= 5"},
 		{"(funcall (block a (function (lambda () (return-from a 5)))))", "! CONTROL-ERROR"},
+		// exits of closures lead to the run of a block or tagbody in which these were made
+		{"(labels ((f (g) (block b (if g (progn (funcall g) 1) (progn (f (function (lambda () (return-from b 7)))) 2))))) (f nil))", "= 7"},
+		{"(labels ((f (g) (block b (if g (progn (return-from b 1) 3) (list (f (function (lambda () (return-from b 7)))) 2))))) (f nil))", "= (1 2)"},
+		{"(labels ((f (g) (let ((l nil)) (tagbody (if g (funcall g) (f (function (lambda () (go a))))) (setq l 1) a (princ (list g l))) l))) (f nil))", "= nil"},
+		{"(labels ((f (n) (tagbody (if (< n 3) (f (+ n 1)) (go a)) (princ n) a))) (f 0))", "= nil"},
 		{"(tagbody a)", "= nil"},
 		{"(let ((n 0)) (tagbody again (setq n (+ n 1)) (if (< n 5) (go again))) n)", "= 5"},
 		{"(let ((l nil)) (tagbody (go b) a (setq l (cons 1 l)) (go c) b (setq l (cons 2 l)) (go a) c) l)", "= (1 2)"},
@@ -76,5 +87,43 @@ func TestForms(t *testing.T) {
 		if got := ran(t, newWorld(t), c.text); got != c.want {
 			t.Errorf("%s %s; want %s", c.text, got, c.want)
 		}
+	}
+}
+
+// P21.1: what the numbers of a tree are does not matter, also where a parameter that tells of another one has the least one.
+func TestNumbers(t *testing.T) {
+	for _, c := range []struct{ tree, want string }{
+		{"(call (lambda 0 {2 1 0 -} (const 2::5) (callglobal 1:COMMON-LISP:LIST (var 0) (var 1))))", "= (nil 5)"},
+		{"(call (lambda 0 {2 1 0 -} (const 2::5) (callglobal 1:COMMON-LISP:LIST (var 0) (var 1))) (const 2::6))", "= (t 6)"},
+		{"(let [9999] (const 2::1) (block 9999 (tagbody [9999] (go 9999) (return 9999 (var 9999)))))", "= 1"},
+		{"(let [1] (const 2::1) (block 1 (tagbody [1] (progn) (call (lambda 0 (return 1 (var 1)))))))", "= 1"},
+		{"(block 1 (tagbody [1 2] (call (lambda 0 (go 2))) (return 1 (const 2::1)) (return 1 (const 2::2))))", "= 2"},
+	} {
+		tree, e := core.Parse(c.tree)
+		fails(t, c.tree, e, api.OK)
+		w := newWorld(t)
+		end, _ := meaning.Run(w, tree, 100)
+		equal(t, c.tree, ending(w, end), c.want)
+	}
+}
+
+// P21.1: cells are made for variables; blocks and tagbodies that no closure leaves take no words.
+func TestWords(t *testing.T) {
+	for _, c := range []struct {
+		text string
+		want int
+	}{
+		{"(let ((n 0)) (tagbody a (setq n (block b (return-from b (+ n 1)))) (if (< n 100) (go a))))", 8},
+		{"(flet ((f () (tagbody (go a) a) (return-from f 1))) (f) (f) (f))", 8 + 3},
+		{"(flet ((f () (tagbody (go a) a) (return-from f 1))) (f))", 8 + 3},
+		{"(block a (funcall (function (lambda () (return-from a 1)))))", 8 + 3},
+		{"(tagbody (funcall (function (lambda () (go a)))) a)", 8 + 3},
+		{"(progn (funcall 'list) 1)", 0},
+	} {
+		w := newWorld(t)
+		tree := tree(t, c.text)
+		used := w.Heap().Used()
+		meaning.Run(w, tree, 10000)
+		equal(t, "the words of "+c.text, w.Heap().Used()-used, c.want)
 	}
 }

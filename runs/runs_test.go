@@ -8,7 +8,7 @@ import (
 	"commonform/runs"
 )
 
-// Runs that are parts of one another have the constants of the outermost one, unless they have their own; with it all is forgotten.
+// Parts have the constants of the run to which they belong, and end with it; other runs are for themselves.
 func TestRuns(t *testing.T) {
 	w, e := lib.New(api.MaxWords, 1000)
 	if e != api.OK {
@@ -16,24 +16,27 @@ func TestRuns(t *testing.T) {
 	}
 	before := len(w.Heap().Roots())
 	a, b := &api.Core{}, &api.Core{}
-	g := runs.Begin(w, false)
-	if g.Part() || g.Crossed || g.Frames != 0 || len(g.Constants()) != 0 {
+	g := runs.Begin(w, true)
+	if g.Part() || g.Crossed() || g.Frames != 0 || len(g.Constants()) != 0 {
 		t.Error("an outermost run")
 	}
 	g.Constants()[a] = w.Heap().Root(8)
 	g.Frames = 5
-	inner := runs.Begin(w, false)
-	if inner != g || !g.Part() || g.Frames != 5 || len(g.Constants()) != 1 {
+	if runs.Begin(w, true) != g || !g.Part() || g.Frames != 5 || len(g.Constants()) != 1 {
 		t.Error("a part")
 	}
-	own := runs.Begin(w, true)
-	if own != g || !g.Part() || len(g.Constants()) != 0 {
-		t.Error("a part with constants of its own")
+	if runs.Begin(w, false) != g || g.Part() || len(g.Constants()) != 0 {
+		t.Error("a run for itself")
 	}
 	g.Constants()[b] = w.Heap().Root(16)
-	g.Crossed = true
+	runs.Begin(w, true)
+	g.Cross()
 	g.End(w)
-	if !g.Part() || !g.Crossed || len(g.Constants()) != 1 || len(w.Heap().Roots()) != before+1 {
+	if g.Part() || !g.Crossed() || len(g.Constants()) != 1 || len(w.Heap().Roots()) != before+2 {
+		t.Error("behind the end of its part")
+	}
+	g.End(w)
+	if !g.Part() || g.Crossed() || len(g.Constants()) != 1 || len(w.Heap().Roots()) != before+1 {
 		t.Error("behind its end")
 	}
 	g.End(w)
@@ -41,7 +44,7 @@ func TestRuns(t *testing.T) {
 	if len(w.Heap().Roots()) != before {
 		t.Error("roots behind all runs")
 	}
-	if again := runs.Begin(w, true); again == g || again.Crossed || again.Part() || again.Frames != 0 {
+	if again := runs.Begin(w, false); again == g || again.Crossed() || again.Part() || again.Frames != 0 {
 		t.Error("another outermost run")
 	}
 }
