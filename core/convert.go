@@ -327,7 +327,6 @@ func (c *converter) written(f api.Form, s *scope) api.Core {
 
 // parameters are those of a lambda, with what they bind.
 type parameters struct {
-	pars     []api.Param
 	inits    []api.Core
 	specials []api.Form
 	values   []api.Core // of the special ones
@@ -337,9 +336,17 @@ type parameters struct {
 
 // lambda returns the tree of a function.
 func (c *converter) lambda(f function, s *scope) api.Core {
+	tree := api.Core{Op: api.CoreLambda, Pars: c.numbered(f.list.Items)}
+	if f.list.Allow {
+		tree.N = 1
+	}
 	p := parameters{scope: s}
-	for _, item := range f.list.Items {
-		c.parameter(&p, item, f.body)
+	for i, item := range f.list.Items {
+		if item.Kind == lambda.Aux {
+			p.aux = append(p.aux, binding{name: item.Var, init: item.Init, special: c.binds(item.Var, f.body)})
+		} else {
+			c.parameter(&p, item, tree.Pars[i], f.body)
+		}
 	}
 	inner := func(s *scope) api.Core {
 		if f.block == nil {
@@ -349,39 +356,43 @@ func (c *converter) lambda(f function, s *scope) api.Core {
 		return api.Core{Op: api.CoreBlock, N: n, Kids: []api.Core{c.within(f.body, s.with(aBlock, *f.block, n))}}
 	}
 	around := c.letStar(p.aux, p.scope.specially(p.specials), inner)
-	tree := api.Core{Op: api.CoreLambda, Pars: p.pars}
-	if f.list.Allow {
-		tree.N = 1
-	}
 	tree.Kids = append(p.inits, bindSpecials(p.specials, p.values, around))
 	return tree
 }
 
-// parameter takes a parameter; its variables are numbered behind its init.
-func (c *converter) parameter(p *parameters, item lambda.Item, b body) {
-	if item.Kind == lambda.Aux {
-		p.aux = append(p.aux, binding{name: item.Var, init: item.Init, special: c.binds(item.Var, b)})
-		return
+// numbered returns the parameters of a lambda; all of them are numbered ahead of what stands in inits.
+func (c *converter) numbered(items []lambda.Item) []api.Param {
+	var pars []api.Param
+	for _, item := range items {
+		if item.Kind == lambda.Aux { // behind all others
+			break
+		}
+		x := api.Param{Kind: item.Kind, Var: c.variable(), Given: none, Key: item.Key}
+		if item.Given.Kind != 0 {
+			x.Given = c.variable()
+		}
+		pars = append(pars, x)
 	}
+	return pars
+}
+
+// parameter takes a parameter: its init stands in the scope of those ahead of it.
+func (c *converter) parameter(p *parameters, item lambda.Item, x api.Param, b body) {
 	if mayMiss(item.Kind) {
 		init := c.form(item.Init, p.scope)
 		p.inits = append(p.inits, init)
 	}
-	x := api.Param{Kind: item.Kind, Given: none, Key: item.Key}
-	x.Var = c.bound(p, item.Var, b)
-	if item.Given.Kind != 0 {
-		x.Given = c.bound(p, item.Given, b)
+	c.bound(p, item.Var, x.Var, b)
+	if x.Given != none {
+		c.bound(p, item.Given, x.Given, b)
 	}
-	p.pars = append(p.pars, x)
 }
 
-// bound numbers a variable of a parameter.
-func (c *converter) bound(p *parameters, v api.Form, b body) int {
-	n := c.variable()
+// bound binds a variable of a parameter to its number.
+func (c *converter) bound(p *parameters, v api.Form, n int, b body) {
 	p.scope = p.scope.with(aVariable, v, n)
 	if c.binds(v, b) {
 		p.specials = append(p.specials, v)
 		p.values = append(p.values, api.Core{Op: api.CoreVar, N: n})
 	}
-	return n
 }

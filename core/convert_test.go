@@ -60,7 +60,7 @@ func TestConvert(t *testing.T) {
 		{"#'(lambda (x &optional (y x z) w &rest r) 1)", "(lambda 0 {1 0 -1 -} {2 1 2 -} {2 3 -1 -} {3 4 -1 -} (var 0) (const NIL) (const 1))"},
 		{"#'(lambda (&key x ((:k y) 1 z)) (list x y z))", "(lambda 0 {4 0 -1 ~X} {4 1 2 ~K} (const NIL) (const 1) (callglobal LIST (var 0) (var 1) (var 2)))"},
 		{"#'(lambda (&key &allow-other-keys))", "(lambda 1 (progn))"}, {"#'(lambda (&key))", "(lambda 0 (progn))"}, {"#'(lambda (&key x &allow-other-keys))", "(lambda 1 {4 0 -1 ~X} (const NIL) (progn))"},
-		{"#'(lambda (&optional (x (let ((a 1)) a)) (y x)) y)", "(lambda 0 {2 1 -1 -} {2 2 -1 -} (let [0] (const 1) (var 0)) (var 1) (var 2))"},
+		{"#'(lambda (&optional (x (let ((a 1)) a) z) (y x)) y)", "(lambda 0 {2 0 1 -} {2 2 -1 -} (let [3] (const 1) (var 3)) (var 0) (var 2))"},
 		{"#'(lambda (x &aux (y x) (g y) z) (list y g z))", "(lambda 0 {1 0 -1 -} (let [1] (var 0) (bind [G] (var 1) (let [2] (const NIL) (callglobal LIST (var 1) (special G) (var 2))))))"},
 		{"#'(lambda (x g &optional (y g)) (list x g y))", "(lambda 0 {1 0 -1 -} {1 1 -1 -} {2 2 -1 -} (var 1) (bind [G] (var 1) (callglobal LIST (var 0) (special G) (var 2))))"},
 		{"#'(lambda (x &optional (y 1 z) &aux (w y)) (declare (special x y z w v)) v)", "(lambda 0 {1 0 -1 -} {2 1 2 -} (const 1) (bind [X Y Z] (var 0) (var 1) (var 2) (bind [W] (special Y) (special V))))"},

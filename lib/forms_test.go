@@ -448,3 +448,46 @@ func TestListLaws(t *testing.T) {
 		equal(t, "arguments behind a change of values", args, []heap.Word{x, y})
 	}
 }
+
+// P20.1: objects that others have made, of any kind and with any parts, make no builtin function fail in a way that is not specified.
+func TestForged(t *testing.T) {
+	r := rand.New(rand.NewSource(206))
+	names := lib.Names()
+	for range 30 {
+		w := newWorld(t)
+		h := w.Heap()
+		l := []heap.Word{heap.Nil, heap.Unbound, 0, fix(1), fix(-2), 97<<3 | 1, symbol(t, w, "COMMON-LISP", "EQUAL"), symbol(t, w, "COMMON-LISP", "APPLY"), object(t, w, "\"x\""), object(t, w, "(1 2)")}
+		for range 60 {
+			x, _ := h.New(1+r.Intn(31), r.Intn(6))
+			if r.Intn(4) == 0 {
+				x, _ = h.Raw(1+r.Intn(31), []string{"", "1", "-5", "1/2", "\xff", "3f800000", "ab", "0101"}[r.Intn(8)])
+			}
+			l = append(l, x)
+		}
+		for _, x := range l {
+			for i := range h.Len(x) {
+				if h.Kind(x) != heap.KindSymbol || h.Len(x) != 5 {
+					h.Set(x, i, l[r.Intn(len(l))])
+				}
+			}
+		}
+		for range 1500 {
+			name := names[r.Intn(len(names))]
+			least, most, _ := lib.Arity(name)
+			if most < 0 {
+				most = least + 3
+			}
+			var args []heap.Word
+			for range least + r.Intn(most-least+1) {
+				args = append(args, l[r.Intn(len(l))])
+			}
+			a := answer(t, w, name, args...)
+			if a.Kind == lib.AnswerLimit && a.Code != api.ErrWords && a.Code != api.ErrDepth && a.Code != api.ErrLarge && a.Code != api.ErrFull {
+				t.Errorf("%s of %v: limit %v", name, args, a.Code)
+			}
+			for _, x := range args {
+				w.Show(x)
+			}
+		}
+	}
+}
