@@ -191,8 +191,8 @@ func (m *model) progn(l []api.Form, s *meant) ([]any, *way) {
 	return out, nil
 }
 
-// body takes the declarations of a body, and binds variables for it: special ones for its time.
-func (m *model) body(l []api.Form, names []string, values []any, s *meant, around func([]api.Form, *meant) ([]any, *way)) ([]any, *way) {
+// declared takes the declarations of a body.
+func declared(l []api.Form) (map[string]bool, []api.Form) {
 	special := map[string]bool{}
 	for len(l) > 0 && len(l[0].Kids) > 0 && forms.Is(l[0].Kids[0], "COMMON-LISP", "DECLARE") {
 		for _, spec := range l[0].Kids[1 : len(l[0].Kids)-1] {
@@ -202,20 +202,35 @@ func (m *model) body(l []api.Form, names []string, values []any, s *meant, aroun
 		}
 		l = l[1:]
 	}
-	var bound []string
-	var with []any
-	for i, name := range names {
-		if special[name] {
-			bound, with = append(bound, name), append(with, values[i])
-		} else {
-			x := values[i]
-			s = &meant{outer: s, sort: 'v', name: name, place: &x}
-		}
-	}
+	return special, l
+}
+
+// specially returns a scope in which variables are special.
+func (s *meant) specially(special map[string]bool) *meant {
 	for name := range special {
 		s = &meant{outer: s, sort: 'v', name: name}
 	}
-	return m.bind(bound, with, func() ([]any, *way) { return around(l, s) })
+	return s
+}
+
+func (s *meant) with(name string, x any) *meant {
+	return &meant{outer: s, sort: 'v', name: name, place: &x}
+}
+
+// oneByOne binds variables to the values of init forms, one behind the other.
+func (m *model) oneByOne(names []string, inits []api.Form, special map[string]bool, s *meant, f func(*meant) ([]any, *way)) ([]any, *way) {
+	if len(names) == 0 {
+		return f(s)
+	}
+	x, w := m.single(inits[0], s)
+	if w != nil {
+		return nil, w
+	}
+	on := func(s *meant) ([]any, *way) { return m.oneByOne(names[1:], inits[1:], special, s, f) }
+	if !special[names[0]] {
+		return on(s.with(names[0], x))
+	}
+	return m.bind(names[:1], []any{x}, func() ([]any, *way) { return on(s.specially(map[string]bool{names[0]: true})) })
 }
 
 // bind binds special variables for the time of a call; missing ones have no value.
@@ -283,17 +298,8 @@ func (m *model) special(name string, args []api.Form, s *meant) ([]any, *way) {
 		return m.progn(args[2:], s)
 	case "progn":
 		return m.progn(args, s)
-	case "let":
-		var names []string
-		var inits []api.Form
-		for _, b := range args[0].Kids[:len(args[0].Kids)-1] {
-			names, inits = append(names, nameOf(b.Kids[0])), append(inits, b.Kids[1])
-		}
-		values, w := m.all(inits, s)
-		if w != nil {
-			return nil, w
-		}
-		return m.body(args[1:], names, values, s, m.progn)
+	case "let", "let*":
+		return m.let(name == "let*", args, s)
 	case "setq":
 		x, w := m.single(args[1], s)
 		if w != nil {
@@ -311,6 +317,32 @@ func (m *model) special(name string, args []api.Form, s *meant) ([]any, *way) {
 		return m.values(name, args, s)
 	}
 	return m.leaving(name, args, s)
+}
+
+func (m *model) let(star bool, args []api.Form, s *meant) ([]any, *way) {
+	special, body := declared(args[1:])
+	var names []string
+	var inits []api.Form
+	for _, b := range args[0].Kids[:len(args[0].Kids)-1] {
+		names, inits = append(names, nameOf(b.Kids[0])), append(inits, b.Kids[1])
+	}
+	if star {
+		return m.oneByOne(names, inits, special, s, func(s *meant) ([]any, *way) { return m.progn(body, s.specially(special)) })
+	}
+	values, w := m.all(inits, s)
+	if w != nil {
+		return nil, w
+	}
+	var bound []string
+	var with []any
+	for i, name := range names {
+		if special[name] {
+			bound, with = append(bound, name), append(with, values[i])
+		} else {
+			s = s.with(name, values[i])
+		}
+	}
+	return m.bind(bound, with, func() ([]any, *way) { return m.progn(body, s.specially(special)) })
 }
 
 // leaving evaluates what has to do with exits.
@@ -462,6 +494,8 @@ func functionOf(parts []api.Form, block string, s *meant) *function {
 			kind = nameOf(x)
 		case x.Kind == api.FormSymbol:
 			f.params = append(f.params, parameter{kind: kind, name: nameOf(x), init: forms.Nil()})
+		case kind == "&aux":
+			f.params = append(f.params, parameter{kind: kind, name: nameOf(x.Kids[0]), init: x.Kids[1]})
 		default:
 			f.params = append(f.params, parameter{kind: kind, name: nameOf(x.Kids[0]), init: x.Kids[1], tells: nameOf(x.Kids[2]), hasTells: true})
 		}
@@ -525,16 +559,25 @@ func (m *model) call(x any, args []any) ([]any, *way) {
 		return m.fault("PROGRAM-ERROR %%::closure")
 	}
 	s := f.scope
-	var names []string
+	special, body := declared(f.body)
+	var bound, aux []string
 	var with []any
+	var inits []api.Form
+	mine := map[string]bool{}
 	take := func(name string, x any) {
-		s = &meant{outer: s, sort: 'v', name: name, place: &x}
-		names, with = append(names, name), append(with, x)
+		s = s.with(name, x)
+		if special[name] {
+			mine[name] = true
+			bound, with = append(bound, name), append(with, x)
+		}
 	}
 	for _, p := range f.params {
 		var x any
 		given := true
 		switch {
+		case p.kind == "&aux":
+			aux, inits = append(aux, p.name), append(inits, p.init)
+			continue
 		case p.kind == "&rest":
 			x = listOf(args)
 		case p.kind == "&key":
@@ -557,19 +600,17 @@ func (m *model) call(x any, args []any) ([]any, *way) {
 		}
 		take(p.name, x)
 		if p.hasTells {
-			if given {
-				take(p.tells, symbol("t"))
-			} else {
-				take(p.tells, nil)
-			}
+			take(p.tells, one(truth(given)))
 		}
 	}
-	return m.body(f.body, names, with, f.scope, func(l []api.Form, s *meant) ([]any, *way) {
+	inner := func(s *meant) ([]any, *way) {
+		s = s.specially(special)
 		if f.block == "" {
-			return m.progn(l, s)
+			return m.progn(body, s)
 		}
-		return m.block(f.block, s, func(s *meant) ([]any, *way) { return m.progn(l, s) })
-	})
+		return m.block(f.block, s, func(s *meant) ([]any, *way) { return m.progn(body, s) })
+	}
+	return m.bind(bound, with, func() ([]any, *way) { return m.oneByOne(aux, inits, special, s.specially(mine), inner) })
 }
 
 // accepts reports whether a function takes these arguments.
@@ -785,19 +826,24 @@ func (p *writer) form(s scope, depth int) string {
 }
 
 func (p *writer) let(s scope, depth int) string {
+	kind := p.pick("let", "let*")
 	var bindings, names []string
+	inits := s
 	for range p.r.Intn(3) {
 		v := p.pick("v0", "v1", "v2", "g0")
-		if slices.Contains(names, v) {
+		if slices.Contains(names, v) && kind == "let" {
 			continue
 		}
+		bindings = append(bindings, "("+v+" "+p.form(inits, depth-1)+")")
 		names = append(names, v)
-		bindings = append(bindings, "("+v+" "+p.form(s, depth-1)+")")
+		if kind == "let*" {
+			inits = inits.with('v', v)
+		}
 	}
 	if len(names) == 0 {
 		return p.form(s, depth-1)
 	}
-	return "(let (" + strings.Join(bindings, " ") + ") " + p.body(s.with('v', names...), names, depth) + ")"
+	return "(" + kind + " (" + strings.Join(bindings, " ") + ") " + p.body(s.with('v', names...), names, depth) + ")"
 }
 
 // body writes a body in which g0, and others now and then, are special.
@@ -858,6 +904,13 @@ func (p *writer) lambda(s scope, depth int, blocks ...string) string {
 				init := p.form(s.with('v', names...), depth-2)
 				list += " (" + fresh() + " " + init + " " + fresh() + ")"
 			}
+		}
+	}
+	if p.r.Intn(4) == 0 {
+		list += " &aux"
+		for range 1 + p.r.Intn(2) {
+			init := p.form(s.with('v', names...), depth-2)
+			list += " (" + fresh() + " " + init + ")"
 		}
 	}
 	return "(" + list + ") " + p.body(s.with('v', names...).with('b', blocks...), names, depth)
