@@ -8,6 +8,7 @@ import (
 
 	"commonform/api"
 	"commonform/core"
+	"commonform/forms"
 	"commonform/heap"
 	"commonform/lib"
 	"commonform/meaning"
@@ -75,11 +76,14 @@ func tree(t *testing.T, text string) api.Core {
 	return c
 }
 
-// shown returns the texts of objects.
+// shown returns the texts of objects, without what tells of sharing where that can be.
 func shown(w *lib.World, l []heap.Word) string {
 	var texts []string
 	for _, x := range l {
 		f, e := w.Show(x)
+		if plain, e := forms.Plain(f); e == api.OK {
+			f = plain
+		}
 		s, e2 := printer.Text(f, true)
 		if e != api.OK || e2 != api.OK {
 			s = "?"
