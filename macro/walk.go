@@ -13,9 +13,9 @@ import (
 )
 
 const (
-	maxCalls = 1000  // that are expanded
-	maxSteps = 10000 // of the function of a macro
-	enough   = 1 << 20
+	maxCalls = 1000    // that are expanded
+	maxSteps = 10000   // of the function of a macro
+	enough   = 1 << 20 // nodes that are counted, of forms that are too large in any case
 )
 
 // walker expands the calls of macros in a form.
