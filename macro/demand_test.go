@@ -71,7 +71,11 @@ func (w *writer) form(depth int) api.Form {
 	case 2:
 		return trees.Call("LET*", trees.List(trees.List(w.variable(), w.form(depth)), trees.List(w.variable(), w.form(depth))), w.form(depth), w.form(depth))
 	case 3, 4:
-		return trees.Call("SYMBOL-MACROLET", trees.List(trees.List(w.variable(), w.form(depth))), w.form(depth))
+		l := []api.Form{trees.List(trees.List(w.variable(), w.form(depth)))}
+		for range w.r.Intn(3) {
+			l = append(l, trees.Call("DECLARE", trees.Call("SPECIAL", w.variable()))) // no part of what it becomes
+		}
+		return trees.Call("SYMBOL-MACROLET", append(l, w.form(depth))...)
 	case 5, 6:
 		return w.locals("FLET", depth)
 	case 7:
@@ -263,6 +267,7 @@ func (v *evaluator) special(name string, args []api.Form, b *binding) (any, bool
 	case "SYMBOL-MACROLET":
 		definition := args[0].Kids[0]
 		inner = &binding{outer: b, name: definition.Kids[0], macro: &definition.Kids[1]}
+		return v.form(args[len(args)-1], inner), true // behind declarations
 	case "MACROLET":
 		definition := args[0].Kids[0]
 		inner = &binding{outer: b, name: definition.Kids[0], function: true, macro: &definition.Kids[2]}

@@ -34,6 +34,7 @@ func TestPrograms(t *testing.T) {
 		{"(defmacro when (x) (list 'quote x)) (when (a b)) (unless nil 1)", "= when, = (a b), = 1"},
 		{"(destructuring-bind (a (b &optional (c 7)) &key d) '(1 (2) :d 4) (list a b c d)) (destructuring-bind (a . b) '(1 2 3) (declare (special zz)) (list a b)) (destructuring-bind (a b) '(1) a)", "= (1 2 7 4), = (1 (2 3)), ! UNDEFINED-FUNCTION %bad-form"},
 		{"(let ((y (list 1 2))) (symbol-macrolet ((x (car y))) (setq x 5) (incf x) (push 9 (cdr y)) (multiple-value-setq (x) 8) (psetq x (+ x 1)) (list x y)))", "= (9 (9 9 2))"},
+		{"(set 'x 1) (let ((x 2)) (list (symbol-macrolet () (declare (special x)) x) (symbol-macrolet ((y x)) (declare (special x)) (declare (ignore z)) (setq y (+ y 1)) y) (symbol-value 'x) (symbol-macrolet () (locally (declare (special x)) x))))", "= 1, = (2 3 1 1)"},
 		{"(macrolet ((add (x &optional (n 1)) `(+ ,x ,n))) (list (add 5) (add 5 2))) (flet ((add (x) (* x 10))) (macrolet ((twice (x) `(progn ,x (add ,x)))) (twice 3)))", "= (6 7), = 30"},
 		{"(eval-when (:compile-toplevel) (princ 1)) (eval-when (:execute) 2) (funcall (lambda (x) (+ x 1)) 2)", "= nil, = 2, = 3"},
 		{"(let ((n 0)) (tagbody (and) (or) (cond) again (incf n) (when (< n 3) (go again))) n)", "= 3"},

@@ -309,7 +309,8 @@ func (x *walker) symbolMacrolet(f api.Form, args []api.Form, s *scope, depth int
 		l := counted(proper(definition), 2, 2)
 		macros = append(macros, scope{sort: aVariable, name: variable(l[0]), expansion: &l[1]})
 	}
-	return x.inside(macros, f, args[1:], s, depth)
+	_, body := divided(args[1:]) // a LOCALLY would take the declarations as its own
+	return x.inside(macros, f, body, s, depth)
 }
 
 // inside returns the expansion of the body of a form that makes macros. Of several ones with a name the first one counts.
